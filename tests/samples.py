@@ -1,0 +1,281 @@
+"""Worlds, lands and odd values for the tests, and what the document's definitions say of them, word by word.
+
+Nothing in here uses the package but for its errors, which stand among the odd values.
+"""
+
+from laidanyhow.errors import Nothing, TileError, Wrong
+
+
+class Dice:
+    """Numbers that look like chance and are the same in each run."""
+
+    def __init__(self, seed):
+        self.state = seed * 7919 + 12345
+
+    def below(self, many):
+        self.state = (self.state * 6364136223846793005 + 1442695040888963407) % 2 ** 64
+        return (self.state >> 33) % many
+
+    def one(self, things):
+        return things[self.below(len(things))]
+
+    def some(self, things, part=2):
+        return [thing for thing in things if self.below(part) == 0]
+
+    def mixed(self, things):
+        rest = list(things)
+        out = []
+        while rest:
+            out.append(rest.pop(self.below(len(rest))))
+        return out
+
+
+STONES = (
+    ("a", "b", "s"), (("r", (("a", "b"), ("b", "a"), ("s", "s"))),), ("m",), (("r", "m", "m"),), (("a", "b"),),
+)
+WHEEL = (
+    ("a", "b", "c"), (("r", (("a", "b"), ("b", "c"), ("c", "a"))),), ("m", "n"), (("r", "m", "n"),),
+    (("a", "b"), ("b", "c")),
+)
+TURNS = (("a", "b"), (("r", (("a", "b"), ("b", "a"))),), ("m", "n"), (("r", "m", "n"), ("r", "n", "m")), ())
+COAST = (
+    ("meadow", "sand", "water"),
+    (
+        ("by", (
+            ("meadow", "meadow"), ("meadow", "sand"), ("sand", "meadow"), ("sand", "sand"), ("sand", "water"),
+            ("water", "sand"), ("water", "water"),
+        )),
+        ("near", (("meadow", "sand"), ("sand", "water"), ("water", "meadow"), ("water", "sand"))),
+        ("seldom", (("sand", "sand"),)),
+    ),
+    ("any", "shore"),
+    (("by", "any", "any"), ("by", "any", "shore"), ("by", "shore", "any"), ("near", "any", "any"),
+     ("near", "shore", "shore")),
+    (("meadow", "sand"), ("sand", "water")),
+)
+LONE = (("a",), (), ("m",), (), ())
+WORLDS = (STONES, WHEEL, TURNS, COAST, LONE)
+
+TRIANGLE = ((("x", "m"), ("y", "m"), ("z", "m")), (("r", "x", "y"), ("r", "y", "z"), ("r", "z", "x")))
+
+
+def nested(depth):
+    thing = ()
+    for _ in range(depth):
+        thing = (thing,)
+    return thing
+
+
+def odd_values():
+    """Values of all kinds that calls for any value must take, new ones each time."""
+    return [
+        None, True, False, 0, 1, -1, 10 ** 39, "", "a", "m", "r", "x", " ", "#", "\n", "A", "a b", "~" * 3000,
+        [], (), {}, [[]], ((),), {"a": 1}, {(): []}, {1: 2, None: True}, ("a",), ["a"], (1, 2, 3), (None,) * 3000,
+        ("a", "b"), ("r", "x", "y"), ((), (), (), (), ()), ([], [], [], [], []), ((), ()), nested(20),
+        Wrong(0), TileError(), Nothing(), (Wrong([]),), [True, (False, {"x": ("a",)})],
+    ]
+
+
+def nearly(thing):
+    """Yield values that are this tuple or dict but for one place, at each depth."""
+    if isinstance(thing, dict):
+        yield list(thing.items())
+        for key in thing:
+            yield {one: thing[one] for one in thing if one != key}
+            for part in nearly_part(thing[key]):
+                yield {**thing, key: part}
+        for key in (None, 1, True, "other", ("x",), Wrong(0)):
+            yield {**thing, key: next(iter(thing.values()), ())}
+    elif isinstance(thing, tuple):
+        yield list(thing)
+        yield thing + ((),)
+        yield thing + (None,)
+        yield thing[::-1]
+        for place, item in enumerate(thing):
+            yield thing[:place] + thing[place + 1:]
+            yield thing[:place] + (item, item) + thing[place + 1:]
+            yield thing[:place] + thing[place + 1:] + (item,)
+            for part in nearly_part(item):
+                yield thing[:place] + (part,) + thing[place + 1:]
+
+
+def nearly_part(item):
+    yield from (None, True, False, 0, 1, "", "other", "A", "a b", [], (), {}, ("a",), [item], (item,), Wrong(0))
+    if isinstance(item, str):
+        yield item + item
+        yield item.upper()
+        yield list(item)
+    else:
+        yield from nearly(item)
+
+
+def random_world(dice):
+    tiles = tuple("abcd"[:1 + dice.below(4)])
+    pairs = [(one, other) for one in tiles for other in tiles]
+    tables = []
+    for kind in ("k", "l", "n")[:dice.below(4)]:
+        couples = dice.some(pairs)
+        for tile in tiles:
+            couples.append((tile, dice.one(tiles)))
+            couples.append((dice.one(tiles), tile))
+        tables.append((kind, tuple(sorted(set(couples)))))
+    marks = ("m", "o", "p", "q")[:1 + dice.below(4)]
+    pattern = [(kind, one, other) for kind, couples in tables for one in marks for other in marks]
+    ties = tuple(sorted(dice.mixed(pattern)[:6]))
+    told = {tuple(sorted(dice.some(tiles) or tiles[:1])) for _ in range(dice.below(4))}
+    return (tiles, tuple(tables), marks, ties, tuple(sorted(told)))
+
+
+def random_land(world, dice, most_cells=6, most_ties=9):
+    names = [f"c{number}" for number in range(dice.below(most_cells + 1))]
+    marks = {name: dice.one(world[2]) for name in names}
+    ties = set()
+    for _ in range(dice.below(most_ties + 1) if len(names) > 1 and world[3] else 0):
+        kind, one, other = dice.one(world[3])
+        begins = [name for name in names if marks[name] == one]
+        ends = [name for name in names if marks[name] == other]
+        if begins and ends:
+            tie = (kind, dice.one(begins), dice.one(ends))
+            if tie[1] != tie[2]:
+                ties.add(tie)
+    return (tuple(sorted(marks.items())), tuple(sorted(ties)))
+
+
+def random_ahead(world, land, dice):
+    lots = all_told(world)
+    return {cell: dice.one(lots) for cell, mark in dice.mixed(land[0]) if dice.below(2) == 0}
+
+
+def greatest_land(world, dice):
+    """A land with 60 cells and, if the world has pattern ties enough, 200 ties."""
+    names = sorted(f"cell{number}" for number in range(60))
+    cells = tuple((name, dice.one(world[2])) for name in names)
+    marks = dict(cells)
+    able = [
+        (kind, one, other)
+        for kind, begin, end in world[3] for one in names for other in names
+        if one != other and marks[one] == begin and marks[other] == end
+    ]
+    return (cells, tuple(sorted(dice.mixed(able)[:200])))
+
+
+def all_told(world):
+    """TOLD LOTS by [2]: the common tiles of each number of the lots that are told."""
+    base = [set(world[0])] + [{tile} for tile in world[0]] + [set(lot) for lot in world[4]]
+    found = []
+    for choice in range(1, 2 ** len(base)):
+        met = set(world[0])
+        for place, lot in enumerate(base):
+            if choice >> place & 1:
+                met = met & lot
+        if met and tuple(sorted(met)) not in found:
+            found.append(tuple(sorted(met)))
+    return sorted(found)
+
+
+def ascends(rows):
+    return all(one < other for one, other in zip(rows, rows[1:]))
+
+
+def tuples_of_strings(thing, many):
+    return (
+        type(thing) is tuple and len(thing) == many
+        and all(type(part) is str for part in thing)
+    )
+
+
+def name_by_words(thing):
+    signs = "abcdefghijklmnopqrstuvwxyz0123456789"
+    return type(thing) is str and 0 < len(thing) < 13 and set(thing) <= set(signs) and not thing[0].isdigit()
+
+
+def names_by_words(thing):
+    return type(thing) is tuple and all(name_by_words(name) for name in thing) and ascends(thing)
+
+
+def rows_by_words(thing, *choices):
+    """An ascending tuple of tuples with an item of each choice."""
+    return (
+        type(thing) is tuple
+        and all(tuples_of_strings(row, len(choices)) for row in thing)
+        and all(part in choice for row in thing for part, choice in zip(row, choices))
+        and ascends(thing)
+    )
+
+
+def world_by_words(thing):
+    """Whether any value is a WORLD, as [2] defines it."""
+    if type(thing) is not tuple or len(thing) != 5:
+        return False
+    tiles, tables, marks, ties, told = thing
+    if not (names_by_words(tiles) and tiles and names_by_words(marks) and marks and type(tables) is tuple):
+        return False
+    if not all(type(row) is tuple and len(row) == 2 for row in tables):
+        return False
+    kinds = tuple(row[0] for row in tables)
+    if not names_by_words(kinds) or not all(rows_by_words(couples, tiles, tiles) for _, couples in tables):
+        return False
+    if not rows_by_words(ties, kinds, marks, marks) or type(told) is not tuple:
+        return False
+    if not all(names_by_words(lot) and lot and set(lot) <= set(tiles) for lot in told) or not ascends(told):
+        return False
+    used = {kind for kind, one, other in ties}
+    return all(
+        {one for one, other in couples} == {other for one, other in couples} == set(tiles)
+        for kind, couples in tables if kind in used
+    )
+
+
+def land_by_words(world, thing):
+    """Whether any value is a LAND of the WORLD, as [2] defines it."""
+    if type(thing) is not tuple or len(thing) != 2 or type(thing[0]) is not tuple:
+        return False
+    cells, ties = thing
+    if not all(tuples_of_strings(row, 2) and row[1] in world[2] for row in cells):
+        return False
+    names = tuple(cell for cell, mark in cells)
+    kinds = tuple(kind for kind, couples in world[1])
+    if not names_by_words(names) or not rows_by_words(ties, kinds, names, names):
+        return False
+    marks = dict(cells)
+    return all(one != other and (kind, marks[one], marks[other]) in world[3] for kind, one, other in ties)
+
+
+def lot_by_words(world, thing):
+    return names_by_words(thing) and len(thing) > 0 and set(thing) <= set(world[0])
+
+
+def fits_by_words(world, kind, one, other):
+    return (one, other) in dict(world[1])[kind]
+
+
+def strikes_by_words(world, land, lots):
+    """All STRIKES that can be done with what is left in the LOTS."""
+    able = []
+    for tie in land[1]:
+        kind, one, other = tie
+        for tile in lots[one]:
+            if not any(fits_by_words(world, kind, tile, mate) for mate in lots[other]):
+                able.append((one, tile, tie))
+        for tile in lots[other]:
+            if not any(fits_by_words(world, kind, mate, tile) for mate in lots[one]):
+                able.append((other, tile, tie))
+    return able
+
+
+def look_by_words(world, land, lots, dice):
+    """What a LOOK leaves that strikes in an order that the dice tell: the dict of lots, one perhaps empty; the row."""
+    left = dict(lots)
+    row = []
+    while () not in left.values():
+        able = strikes_by_words(world, land, left)
+        if not able:
+            break
+        cell, tile, tie = dice.one(able)
+        row.append((cell, tile, tie))
+        left[cell] = tuple(one for one in left[cell] if one != tile)
+    return left, tuple(row)
+
+
+def first_by_words(world, land, ahead):
+    return {cell: ahead.get(cell, world[0]) for cell, mark in land[0]}
