@@ -110,53 +110,48 @@ def nearly_part(item):
 
 
 def random_world(dice):
-    tiles = tuple("abcd"[:1 + dice.below(4)])
+    tiles = tuple("abcd"[:dice.one([1, 2, 3, 3, 4, 4])])
     pairs = [(one, other) for one in tiles for other in tiles]
+    kinds = ("k", "l", "n")[:dice.one([0, 1, 1, 2, 2, 3, 3])]
+    marks = ("m", "o", "p", "q")[:dice.one([1, 1, 2, 3, 4])]
+    pattern = [(kind, one, other) for kind in kinds for one in marks for other in marks]
+    ties = tuple(sorted(dice.mixed(pattern)[:dice.one([1, 3, 6, 6])]))
+    used = [kind for kind, one, other in ties]
     tables = []
-    for kind in ("k", "l", "n")[:dice.below(4)]:
-        couples = dice.some(pairs)
-        for tile in tiles:
-            couples.append((tile, dice.one(tiles)))
-            couples.append((dice.one(tiles), tile))
+    for kind in kinds:
+        couples = dice.some(pairs, 2 + dice.below(9))
+        if kind in used:
+            couples += zip(tiles, dice.mixed(tiles))
         tables.append((kind, tuple(sorted(set(couples)))))
-    marks = ("m", "o", "p", "q")[:1 + dice.below(4)]
-    pattern = [(kind, one, other) for kind, couples in tables for one in marks for other in marks]
-    ties = tuple(sorted(dice.mixed(pattern)[:6]))
     told = {tuple(sorted(dice.some(tiles) or tiles[:1])) for _ in range(dice.below(4))}
     return (tiles, tuple(tables), marks, ties, tuple(sorted(told)))
 
 
-def random_land(world, dice, most_cells=6, most_ties=9):
-    names = [f"c{number}" for number in range(dice.below(most_cells + 1))]
-    marks = {name: dice.one(world[2]) for name in names}
-    ties = set()
-    for _ in range(dice.below(most_ties + 1) if len(names) > 1 and world[3] else 0):
-        kind, one, other = dice.one(world[3])
-        begins = [name for name in names if marks[name] == one]
-        ends = [name for name in names if marks[name] == other]
-        if begins and ends:
-            tie = (kind, dice.one(begins), dice.one(ends))
-            if tie[1] != tie[2]:
-                ties.add(tie)
-    return (tuple(sorted(marks.items())), tuple(sorted(ties)))
-
-
-def random_ahead(world, land, dice):
-    lots = all_told(world)
-    return {cell: dice.one(lots) for cell, mark in dice.mixed(land[0]) if dice.below(2) == 0}
-
-
-def greatest_land(world, dice):
-    """A land with 60 cells and, if the world has pattern ties enough, 200 ties."""
-    names = sorted(f"cell{number}" for number in range(60))
-    cells = tuple((name, dice.one(world[2])) for name in names)
+def land_of(world, dice, names, many_ties):
+    """A land of cells with these names, and of so many ties if the pattern ties allow so many."""
+    cells = tuple((name, dice.one(world[2])) for name in sorted(names))
     marks = dict(cells)
     able = [
         (kind, one, other)
         for kind, begin, end in world[3] for one in names for other in names
         if one != other and marks[one] == begin and marks[other] == end
     ]
-    return (cells, tuple(sorted(dice.mixed(able)[:200])))
+    return (cells, tuple(sorted(dice.mixed(able)[:many_ties])))
+
+
+def random_land(world, dice, most_cells=6, most_ties=9):
+    many = max(0, most_cells - dice.one([0, 0, 1, 2, 3, 6]))
+    return land_of(world, dice, [f"c{number}" for number in range(many)], dice.below(most_ties + 1))
+
+
+def greatest_land(world, dice):
+    """A land with 60 cells and 200 ties, if the pattern ties allow so many."""
+    return land_of(world, dice, [f"cell{number}" for number in range(60)], 200)
+
+
+def random_ahead(world, land, dice):
+    lots = all_told(world)
+    return {cell: dice.one(lots) for cell, mark in dice.mixed(land[0]) if dice.below(2) == 0}
 
 
 def all_told(world):

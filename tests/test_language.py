@@ -18,6 +18,10 @@ UNUSED = set(
     "register mro elements open input law version_info compile copyright credits delattr dir eval exec exit gc globals"
     " help id importlib license locals os quit super type vars sys map filter".split()
 )
+UNUSED_BEGINNINGS = (
+    "__", "_wall", "_pe_", "_dcw_", "_enum_", "_cm_", "_twin_re_", "_lay_", "_law_", "_stub_", "_sre", "_WallAttr",
+    "_cold", "_tuplegetter", "_outside", "_record", "_written_out", "_member_names",
+)
 STATEMENTS = (
     ast.FunctionDef, ast.ClassDef, ast.Return, ast.Assign, ast.AugAssign, ast.For, ast.While, ast.If, ast.Expr,
     ast.Raise, ast.Pass, ast.Break, ast.Continue, ast.ImportFrom, ast.Try, ast.Delete,
@@ -121,6 +125,15 @@ class Language(unittest.TestCase):
             self.assertFalse(is_builtin(node.arg) or node.arg in UNUSED, f"{where}: {node.arg}")
         for where, node in self.nodes(ast.FunctionDef, ast.ClassDef):
             self.assertFalse(is_builtin(node.name) or node.name in UNUSED, f"{where}: {node.name}")
+
+    def test_beginnings_of_names(self):
+        names = [(where, node.id) for where, node in self.nodes(ast.Name)]
+        names += [(where, node.arg) for where, node in self.nodes(ast.arg)]
+        names += [(where, node.attr) for where, node in self.nodes(ast.Attribute)]
+        names += [(where, node.name) for where, node in self.nodes(ast.FunctionDef, ast.ClassDef)]
+        for where, name in names:
+            if name != "__init__":
+                self.assertFalse(name.startswith(UNUSED_BEGINNINGS), f"{where}: {name}")
 
     def test_no_local_name_is_a_class_or_an_import(self):
         for name, tree in self.trees.items():

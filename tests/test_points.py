@@ -3,9 +3,9 @@
 import copy
 import unittest
 
-from laidanyhow import forms, worlds, worldtexts
+from laidanyhow import forms, lands, landtexts, looks, strikes, worlds, worldtexts
 from laidanyhow.errors import TileError
-from tests.samples import COAST, STONES, TRIANGLE, WHEEL
+from tests.samples import COAST, STONES, TRIANGLE, TURNS, WHEEL, Dice, greatest_land
 
 TORN = (
     ("a", "b", "c"), (("r", (("a", "a"), ("a", "b"), ("b", "c"))),), ("m",), (("r", "m", "m"),),
@@ -49,6 +49,83 @@ def calls():
     ]
 
 
+def calls_on_lands():
+    told = {"z": ("a", "b"), "x": ("a", "b")}
+    refused = {"y": ("a", "b", "s"), "x": ("a",)}
+    return [
+        *calls_on(STONES, TRIANGLE, told),
+        *calls_on(STONES, TRIANGLE, refused),
+        *calls_on(TURNS, ((("c0", "m"), ("c1", "n")), (("r", "c0", "c1"), ("r", "c1", "c0"))), {"c1": ("a",)}),
+        *calls_on(STONES, ((), ()), {}),
+        (lands.land_fault, STONES, [TRIANGLE]),
+        (lands.checked_land, TURNS, TRIANGLE),
+        (lands.grid, TURNS, (("m", "n"), ("n", "m")), "r", "r"),
+        (lands.grid, TURNS, (("m", "n"), ("n", "m")), None, None),
+        (lands.grid, TURNS, (("m", "n"), ("m", "n")), "r", "r"),
+        (lands.ring, TURNS, ("m", "n") * 6, "r"),
+        (lands.ring, TURNS, ("m", "n", "m"), "r"),
+        (landtexts.picture, (("m",),), {"r0c0": ("a", "b")}),
+        (landtexts.read_land, STONES, "tie r x x\ncell x m"),
+        (landtexts.read_land, [], "tie r x x\ncell x m"),
+        (landtexts.read_ahead, STONES, TRIANGLE, "ahead x a s"),
+        (landtexts.read_tiles, STONES, TRIANGLE, ["lay x a"]),
+        (looks.picked, {"z": ("a", "b"), "x": ("s",)}, ("y", "a")),
+        (looks.are_let, STONES, TRIANGLE, {}, (("z", "s"), ("x", "s"))),
+        (strikes.can_be_struck, STONES, TRIANGLE, {"z": (), "y": ("a",), "x": ()}, ("y", "a", ("r", "x", "y"))),
+        (strikes.is_strikes, STONES, TRIANGLE, refused, [("y", "a", ("r", "x", "y")), {}]),
+        (strikes.is_refusal, STONES, TRIANGLE, refused, {"x": [()]}),
+    ]
+
+
+def calls_on(world, land, ahead):
+    """Calls of all functions that take any land and what is told ahead, with arguments of that size."""
+    cells = lands.cells_of(land)
+    tiles = {cell: lot[0] for cell, lot in reversed(list(ahead.items()))}
+    lots = {cell: ahead.get(cell, world[0][-2:]) for cell in reversed(cells)}
+    row = strikes.strikes_of(world, land, ahead)
+    parts_of_it = [
+        (call, land, cell) for cell in cells[:2] for call in (lands.mark_of, lands.ties_at, lands.neighbours)
+    ]
+    return parts_of_it + [
+        (lands.checked_land, world, land),
+        (lands.cells_of, land),
+        (lands.pieces, land),
+        (lands.steps_from, land, cells[1:2]),
+        (lands.steps_from, land, cells[::-3][::-1]),
+        (lands.is_forest, land),
+        (lands.part_of, land, cells[::2]),
+        (lands.beside_each_other, lands.part_of(land, cells[1::2]), lands.part_of(land, cells[::2])),
+        (landtexts.land_text, land),
+        (landtexts.ahead_text, ahead),
+        (landtexts.tiles_text, tiles),
+        (landtexts.read_land, world, landtexts.land_text(land)),
+        (landtexts.read_ahead, world, land, landtexts.ahead_text(ahead)),
+        (landtexts.read_tiles, world, land, landtexts.tiles_text(tiles)),
+        (looks.first_lots, world, land, ahead),
+        (looks.look, world, land, ahead),
+        (looks.look_on, world, land, lots),
+        (looks.are_let, world, land, ahead, tuple(tiles.items())),
+        (looks.open_cells, lots),
+        (looks.are_held, world, land, lots),
+        (strikes.struck, world, land, ahead, row),
+        (strikes.is_strikes, world, land, ahead, row),
+        (strikes.strikes_of, world, land, ahead),
+        (strikes.is_refusal, world, land, ahead, row),
+        (strikes.refusal, world, land, ahead),
+        (strikes.short_refusal, world, land, ahead),
+    ]
+
+
+def calls_of_the_greatest_size():
+    told = []
+    for seed, world in enumerate((STONES, COAST, TURNS)):
+        land = greatest_land(world, Dice(seed))
+        cells = Dice(seed).mixed(lands.cells_of(land))
+        told += calls_on(world, land, {cells[0]: world[0], cells[1]: world[0][:1]})
+        told += calls_on(world, land, {cell: world[0][place % 2:][:1] for place, cell in enumerate(cells)})
+    return told
+
+
 def answer(call):
     """What a call returns or raises, as text."""
     try:
@@ -79,28 +156,30 @@ def spoil(thing):
 
 
 class Points(unittest.TestCase):
+    calls = staticmethod(calls)
+
     def test_arguments_are_not_changed(self):
-        for call in calls():
+        for call in self.calls():
             before = copy.deepcopy(call[1:])
             shown = repr(before)
             answer(call)
             self.assertEqual(repr(call[1:]), shown)
 
     def test_equal_results_in_any_order_of_calls(self):
-        first = [answer(call) for call in calls()]
-        again = [answer(call) for call in reversed(calls())]
+        first = [answer(call) for call in self.calls()]
+        again = [answer(call) for call in reversed(self.calls())]
         self.assertEqual(again[::-1], first)
-        self.assertEqual([answer(call) for call in calls()], first)
+        self.assertEqual([answer(call) for call in self.calls()], first)
 
     def test_equal_results_of_dicts_in_another_order(self):
-        for call in calls():
+        for call in self.calls():
             turned = [
                 {key: arg[key] for key in reversed(list(arg))} if isinstance(arg, dict) else arg for arg in call[1:]
             ]
             self.assertEqual(answer((call[0], *turned)), answer(call))
 
     def test_results_are_new(self):
-        for call in calls():
+        for call in self.calls():
             shown = answer(call)
             try:
                 result = call[0](*call[1:])
@@ -115,7 +194,7 @@ class Points(unittest.TestCase):
             self.assertEqual(answer(call), shown)
 
     def test_keys_ascend(self):
-        for call in calls():
+        for call in self.calls():
             try:
                 result = call[0](*call[1:])
             except TileError:
@@ -125,6 +204,18 @@ class Points(unittest.TestCase):
                     self.assertEqual(list(part), sorted(part))
 
     def test_truths_are_truths(self):
-        for call in calls():
-            if call[0].__name__.startswith(("is_", "are_")) or call[0].__name__ in ("fits", "holds"):
+        for call in self.calls():
+            if call[0].__name__.startswith(("is_", "are_")) or call[0].__name__ in ("fits", "holds", "can_be_struck"):
                 self.assertIs(type(call[0](*call[1:])), bool)
+
+
+class PointsOnLands(Points):
+    calls = staticmethod(calls_on_lands)
+
+
+class PointsOnTheGreatestLands(Points):
+    calls = staticmethod(calls_of_the_greatest_size)
+
+    def test_the_lands_are_as_great(self):
+        sizes = {(len(land[0]), len(land[1])) for land in (call[2] for call in self.calls() if call[0] == looks.look)}
+        self.assertIn((60, 200), sizes)

@@ -128,6 +128,9 @@ class Faults(unittest.TestCase):
     def test_least_partner(self):
         world = with_table(0, ("k0", ALL[:5]))(with_table(1, ("k1", ()))(BASE))
         self.assertEqual(world_fault(world), ("partner", "k0", "c"))
+        tables, ties = tuple((kind, ()) for kind in "bcdefgh"), tuple((kind, "m", "m") for kind in "cdefgh")
+        unlike = (("a",), tables, ("m",), ties, ())
+        self.assertEqual(world_fault(unlike), ("partner", "c", "a"))
         turned = with_part(3, (("k1", "m", "m"),))(world)
         self.assertEqual(world_fault(turned), ("partner", "k1", "a"))
         self.assertIsNone(world_fault(with_part(3, ())(world)))

@@ -71,6 +71,8 @@ FAULTS = [
     ("tile a\ntile b\nmark m\ntold b a b", 3, 3),
     ("tile a\ntile b\nmark m\ntold b a c b", 3, 3),
     ("tile a\ntile b\nmark m\ntold a b\ntold b a", 4, 2),
+    ("tile a\ntile b\nmark m\ntold b a\ntold a b", 4, 2),
+    ("tile a\ntile b\nmark m\ntold b a\ntold b a", 4, 2),
     ("tile a\ntile b\nmark m\ntold a\ntold b\ntold a", 5, 1),
     ("tile a\ntile b\nmark m\ntold a b\ntold b a b", 4, 3),
     # The first line at fault is told, though a later one has its fault further to the left.
