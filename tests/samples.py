@@ -127,6 +127,32 @@ def random_world(dice):
     return (tiles, tuple(tables), marks, ties, tuple(sorted(told)))
 
 
+def great_world(dice, each_told=False):
+    """A world of the greatest size: 4 tiles, 3 kinds, 4 marks, 6 pattern ties."""
+    tiles = ("a", "b", "c", "d")
+    pairs = [(one, other) for one in tiles for other in tiles]
+    pattern = [(kind, one, other) for kind in "kln" for one in "mopq" for other in "mopq"]
+    tables = []
+    for kind in "kln":
+        couples = dice.some(pairs, 2 + dice.below(6)) + list(zip(tiles, dice.mixed(tiles)))
+        tables.append((kind, tuple(sorted(set(couples)))))
+    told = {tuple(sorted(dice.some(tiles) or tiles[:1])) for _ in range(dice.below(4))}
+    if each_told:
+        told = {tuple(tile for tile in tiles if number >> "abcd".index(tile) & 1) for number in range(1, 16)}
+    return (tiles, tuple(tables), ("m", "o", "p", "q"), tuple(sorted(dice.mixed(pattern)[:6])), tuple(sorted(told)))
+
+
+def chain_world(many):
+    """A world with so many marks in a row; the lot of a and b comes about at the first one, and is handed on."""
+    marks = tuple("m%03d" % number for number in range(many))
+    tables = (
+        ("be", (("a", "a"), ("a", "b"), ("b", "c"), ("c", "a"), ("c", "c"))),
+        ("on", (("a", "a"), ("b", "b"), ("c", "c"))),
+    )
+    ties = (("be", "m000", "m000"), *(("on", one, other) for one, other in zip(marks, marks[1:])))
+    return (("a", "b", "c"), tables, marks, ties, ())
+
+
 def land_of(world, dice, names, many_ties):
     """A land of cells with these names, and of so many ties if the pattern ties allow so many."""
     cells = tuple((name, dice.one(world[2])) for name in sorted(names))
@@ -147,6 +173,23 @@ def random_land(world, dice, most_cells=6, most_ties=9):
 def greatest_land(world, dice):
     """A land with 60 cells and 200 ties, if the pattern ties allow so many."""
     return land_of(world, dice, [f"cell{number}" for number in range(60)], 200)
+
+
+def random_forest(world, dice, many):
+    """A forest of so many cells, with names in any order: each cell tied to one before it, or beginning a piece."""
+    names = dice.mixed([f"t{number}" for number in range(many)])
+    marks = {}
+    ties = []
+    for name in names:
+        marks[name] = dice.one(world[2])
+        able = [
+            (kind, *ends)
+            for kind, begin, end in world[3] for one in marks for ends in ((one, name), (name, one))
+            if one != name and (marks[ends[0]], marks[ends[1]]) == (begin, end)
+        ]
+        if able and dice.below(12):
+            ties.append(dice.one(able))
+    return (tuple(sorted(marks.items())), tuple(sorted(ties)))
 
 
 def random_ahead(world, land, dice):

@@ -12,8 +12,10 @@ BUILTINS = set(
 )
 METHODS = set(
     "append count endswith extend find get index insert items join keys ljust lower partition pop remove replace"
-    " reverse rfind rjust rpartition split startswith strip upper values zfill add discard".split()
+    " reverse rfind rjust rpartition setdefault split startswith strip upper values zfill add discard"
+    " bit_length".split()
 )
+LIBRARY = {"heapq": {"heappop", "heappush"}, "math": {"gcd"}}
 UNUSED = set(
     "register mro elements open input law version_info compile copyright credits delattr dir eval exec exit gc globals"
     " help id importlib license locals os quit super type vars sys map filter".split()
@@ -90,12 +92,16 @@ class Language(unittest.TestCase):
     def test_imports_name_the_file_that_defines(self):
         defined = {
             name: {node.name for node in tree.body if isinstance(node, (ast.FunctionDef, ast.ClassDef))}
+            | {one.id for node in tree.body if isinstance(node, ast.Assign) for one in node.targets}
             for name, tree in self.trees.items()
         }
         seen = {name: set() for name in self.trees}
         for name, tree in self.trees.items():
             for node in ast.walk(tree):
-                if isinstance(node, ast.ImportFrom):
+                if isinstance(node, ast.ImportFrom) and node.module in LIBRARY:
+                    self.assertLessEqual({one.name for one in node.names}, LIBRARY[node.module], name)
+                    self.assertEqual([one.asname for one in node.names if one.asname], [], name)
+                elif isinstance(node, ast.ImportFrom):
                     self.assertEqual((node.level, node.module.split(".")[0]), (0, "laidanyhow"), name)
                     source = node.module.split(".")[1]
                     seen[name].add(source)
@@ -107,6 +113,14 @@ class Language(unittest.TestCase):
             free = [name for name in seen if not seen[name] & set(seen)]
             self.assertTrue(free, f"these import each other: {sorted(seen)}")
             seen = {name: seen[name] for name in seen if name not in free}
+
+    def test_names_of_the_library_are_only_called(self):
+        named = {name for names in LIBRARY.values() for name in names}
+        for name, tree in self.trees.items():
+            called = {id(node.func) for node in ast.walk(tree) if isinstance(node, ast.Call) and not node.keywords}
+            for node in ast.walk(tree):
+                if isinstance(node, ast.Name) and node.id in named:
+                    self.assertIn(id(node), called, f"{name}:{node.lineno}")
 
     def test_imports_are_used(self):
         for name, tree in self.trees.items():

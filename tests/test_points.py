@@ -3,9 +3,10 @@
 import copy
 import unittest
 
-from laidanyhow import forms, lands, landtexts, looks, strikes, worlds, worldtexts
+from laidanyhow import arising, forms, lands, landtexts, layings, looks, rounds, strikes, sums, webs, worlds, worldtexts
 from laidanyhow.errors import TileError
-from tests.samples import COAST, STONES, TRIANGLE, TURNS, WHEEL, Dice, greatest_land
+from tests.samples import COAST, STONES, TRIANGLE, TURNS, WHEEL, Dice, great_world, greatest_land, land_of
+from tests.samples import random_ahead, random_forest
 
 TORN = (
     ("a", "b", "c"), (("r", (("a", "a"), ("a", "b"), ("b", "c"))),), ("m",), (("r", "m", "m"),),
@@ -126,6 +127,105 @@ def calls_of_the_greatest_size():
     return told
 
 
+def calls_of_layings(world, land, ahead):
+    """Calls of all functions that go through the layings of any small land."""
+    least = layings.least_laying(world, land, ahead)
+    tree = layings.no_laying(world, land, ahead)
+    turned = {cell: least[cell] for cell in reversed(list(least))} if least else {}
+    return [
+        (layings.is_laying, world, land, ahead, turned),
+        (layings.is_laying, world, land, ahead, [turned]),
+        (layings.least_laying, world, land, ahead),
+        (layings.all_layings, world, land, ahead, 0),
+        (layings.all_layings, world, land, ahead, 5000),
+        (layings.no_laying, world, land, ahead),
+        (layings.is_no_laying, world, land, ahead, tree),
+        (layings.is_no_laying, world, land, ahead, ("tried", "x", [{"x": tree}])),
+    ]
+
+
+def calls_of_sums(world, land, ahead):
+    """Calls of all functions that sum over any forest."""
+    cell = land[0][len(land[0]) // 2][0]
+    least = layings.least_laying(world, land, ahead)
+    turned = {one: least[one] for one in reversed(list(least))} if least else None
+    return ([(sums.number_of, world, land, ahead, turned)] if least else []) + [
+        (sums.layings_many, world, land, ahead),
+        (sums.standing_many, world, land, ahead, cell),
+        (sums.laying_at, world, land, ahead, 0),
+        (sums.laying_at, world, land, ahead, -1),
+        (sums.laying_at, world, land, ahead, 10 ** 39),
+        (sums.share, world, land, ahead, cell, world[0][-1]),
+    ]
+
+
+def calls_on_layings():
+    told = {"z": ("a", "b"), "x": ("a", "b")}
+    ring = lands.ring(TURNS, ("m", "n") * 4, "r")
+    line = (TRIANGLE[0], TRIANGLE[1][:2])
+    return [
+        *calls_of_layings(STONES, TRIANGLE, {}),
+        *calls_of_layings(STONES, TRIANGLE, told),
+        *calls_of_layings(STONES, TRIANGLE, {"x": ("a",)}),
+        *calls_of_layings(TURNS, ring, {"c7": ("a",)}),
+        *calls_of_layings(STONES, ((), ()), {}),
+        *calls_of_sums(STONES, line, {}),
+        *calls_of_sums(STONES, line, told),
+        *calls_of_sums(STONES, line, {"z": ("a",), "x": ("b",)}),
+    ]
+
+
+def calls_on_the_greatest_layings():
+    told = []
+    for seed, world in enumerate((STONES, COAST, great_world(Dice(1)))):
+        dice = Dice(seed)
+        land = land_of(world, dice, ["c%d" % place for place in range(12)], 24)
+        told += calls_of_layings(world, land, {})
+        told += calls_of_layings(world, land, random_ahead(world, land, dice))
+        forest = random_forest(world, dice, 60)
+        told += calls_of_sums(world, forest, {})
+        told += calls_of_sums(world, forest, random_ahead(world, forest, dice))
+        told.append((layings.least_laying, world, forest, {}))
+        told.append((layings.no_laying, world, forest, random_ahead(world, forest, dice)))
+    return told
+
+
+def calls_of_webs(world):
+    """Calls of all functions that tell of the lots that arise, of rounds and of the web of a world."""
+    found = arising.nodes(world)
+    row = arising.story(world)
+    lots = {node: node[1][:2] for node in reversed(found)}
+    picks = [(found[0], found[0][1][0]), (found[-1], found[-1][1][-1]), (found[2], world[0][0])]
+    return [
+        (arising.arising, world),
+        (arising.nodes, world),
+        (arising.story, world),
+        (arising.is_story, world, row),
+        (arising.is_story, world, row[::-1]),
+        (arising.is_story, world, [row, {}]),
+        *((arising.grown, world, node) for node in found[::9]),
+        (rounds.round_lots, world, 0),
+        (rounds.round_lots, world, 2),
+        (rounds.round_lots, world, 10 ** 39),
+        (rounds.forgets, world),
+        *((rounds.far_tree, world, number) for number in (1, 2, 3, 20, 10 ** 39)),
+        (webs.web_lots, world),
+        (webs.web_ties, world),
+        (webs.web_look, world, {node: node[1] for node in reversed(found)}),
+        (webs.web_look, world, lots),
+        *((webs.web_led, world, tuple(picks[:many])) for many in range(4)),
+    ]
+
+
+def calls_on_webs():
+    return [call for world in (STONES, COAST, TURNS, WHEEL) for call in calls_of_webs(world)]
+
+
+def calls_on_the_greatest_webs():
+    worlds_told = [great_world(Dice(seed)) for seed in range(2)] + [great_world(Dice(3), each_told=True)]
+    return [call for world in worlds_told for call in calls_of_webs(world)]
+
+
 def answer(call):
     """What a call returns or raises, as text."""
     try:
@@ -219,3 +319,22 @@ class PointsOnTheGreatestLands(Points):
     def test_the_lands_are_as_great(self):
         sizes = {(len(land[0]), len(land[1])) for land in (call[2] for call in self.calls() if call[0] == looks.look)}
         self.assertIn((60, 200), sizes)
+
+
+class PointsOnLayings(Points):
+    calls = staticmethod(calls_on_layings)
+
+
+class PointsOnTheGreatestLayings(Points):
+    calls = staticmethod(calls_on_the_greatest_layings)
+
+
+class PointsOnWebs(Points):
+    calls = staticmethod(calls_on_webs)
+
+
+class PointsOnTheGreatestWebs(Points):
+    calls = staticmethod(calls_on_the_greatest_webs)
+
+    def test_the_webs_are_as_great(self):
+        self.assertEqual(max(len(arising.nodes(call[1])) for call in self.calls()), 60)
