@@ -129,6 +129,8 @@ class Stories(unittest.TestCase):
             ((told, back), False),
             ((told, on, meet), False),
             ((told, ("m", ("a",), ("meet", ("a",), ("a",)))), True),
+            ((told, ("m", ("b",), ("told",)), ("m", (), ("meet", ("a",), ("b",)))), False),
+            ((told, ("m", (), ("told",))), False),
             ((("m", ("a",), ("meet", ("a",), ("a",))),), False),
             ((told, ("n", ("a",), ("meet", ("a",), ("a",)))), False),
             ((told, ("n", ("a", "b"), ("on", ("k", "m", "m"), ("a",)))), False),

@@ -8,12 +8,19 @@ from laidanyhow.layings import all_layings, is_laying, is_no_laying, least_layin
 from laidanyhow.looks import look, picked
 from laidanyhow.strikes import is_refusal, refusal
 from tests.by_words import layings_by_words, left_by_words
-from tests.samples import COAST, LONE, STONES, TRIANGLE, TURNS, WHEEL, Dice, land_of, nearly, nearly_part, odd_values
-from tests.samples import random_ahead, random_forest, random_land, random_world
+from tests.samples import COAST, LONE, STONES, TRIANGLE, TURNS, WHEEL, Dice, all_told, land_of, nearly, nearly_part
+from tests.samples import odd_values, random_ahead, random_forest, random_land, random_world
 
 PLAIN = (("a", "b"), (("r", (("a", "b"), ("b", "a"))),), ("m",), (("r", "m", "m"),), ())
 UNLIKE = tuple((one, other) for one in "abc" for other in "abc" if one != other)
-THREE = (("a", "b", "c"), (("r", UNLIKE),), ("m",), (("r", "m", "m"),), ())
+THREE = (("a", "b", "c"), (("r", UNLIKE),), ("m",), (("r", "m", "m"),), (("b", "c"),))
+UNEVEN = (
+    ("a", "b", "c", "d"),
+    (("k", (("a", "b"), ("a", "d"), ("b", "a"), ("b", "c"), ("c", "d"), ("d", "b"), ("d", "c"))), ("r", (
+        ("a", "c"), ("a", "d"), ("b", "d"), ("c", "a"), ("c", "b"), ("d", "a"), ("d", "b"), ("d", "c")
+    ))),
+    ("m",), (("k", "m", "m"), ("r", "m", "m")), (("a", "b", "d"), ("b", "c", "d")),
+)
 EACH = tuple((one, other) for one in "abcd" for other in "abcd")
 FREELY = (("a", "b", "c", "d"), (("r", EACH),), ("m",), (("r", "m", "m"),), ())
 
@@ -132,6 +139,34 @@ class Layings(unittest.TestCase):
                 self.assertTrue(is_laying(world, land, ahead, least))
             else:
                 self.assertTrue(is_no_laying(world, land, ahead, tree))
+
+    def test_the_least_one_where_the_look_leads_astray(self):
+        astray = 0
+        for seed in range(2000):
+            dice = Dice(seed)
+            world = (THREE, UNEVEN)[seed % 2]
+            land = land_of(world, dice, ["c%d" % place for place in range(6 + dice.below(5))], 12 + dice.below(14))
+            lots = all_told(world)
+            ahead = {cell: dice.one(lots) for cell, mark in land[0] if dice.below(4) == 0}
+            if seed % 3 == 0:
+                # A cell that is tied to none, at which the first tile is not told.
+                land = ((("b0", "m"), *land[0]), land[1])
+                ahead["b0"] = world[0][1:]
+            told = ahead
+            for cell, mark in land[0]:
+                lots = look(world, land, told)
+                tiles = lots[cell] if lots else ()
+                able = [tile for tile in tiles if look(world, land, picked(told, (cell, tile))) is not None]
+                told = picked(told, (cell, able[0])) if able else {}
+                if not able:
+                    break
+            least = least_laying(world, land, ahead)
+            if least is None:
+                self.assertEqual(all_layings(world, land, ahead, 0), [])
+            else:
+                self.assertEqual(least, all_layings(world, land, ahead, 10 ** 6)[0])
+                astray += told == {}
+        self.assertGreater(astray, 10)
 
     def test_forests_of_sixty_cells(self):
         for seed in range(40):

@@ -3,7 +3,8 @@
 import copy
 import unittest
 
-from laidanyhow import arising, forms, lands, landtexts, layings, looks, rounds, strikes, sums, webs, worlds, worldtexts
+from laidanyhow import arising, forms, free, guides, lands, landtexts, layings, looks, rounds, strikes, sums, tried
+from laidanyhow import webs, worlds, worldtexts, wronglands
 from laidanyhow.errors import TileError
 from tests.samples import COAST, STONES, TRIANGLE, TURNS, WHEEL, Dice, great_world, greatest_land, land_of
 from tests.samples import random_ahead, random_forest
@@ -226,6 +227,77 @@ def calls_on_the_greatest_webs():
     return [call for world in worlds_told for call in calls_of_webs(world)]
 
 
+def calls_of_guides(world, land, ahead):
+    """Calls of all functions that tell of guides, of free worlds and of lands that go wrong."""
+    found = arising.nodes(world)
+    told = [
+        (guides.guide, world),
+        (guides.is_sure, world),
+        (guides.is_guide, world, {node: node[1][0] for node in reversed(found)}),
+        (guides.is_guide, world, [world, {}]),
+        (guides.is_bar, world, ((), found[0])),
+        (guides.is_bar, world, [found, {}]),
+        (guides.laying_by, world, land, ahead),
+        (free.is_free, world),
+        (free.bound_pick, world),
+        (free.is_stuck, world, land, ahead, tuple((cell, world[0][0]) for cell, mark in land[0][:3])),
+        (free.is_stuck, world, land, ahead, [land[0], {}]),
+        *((wronglands.copies, world, many) for many in (1, 2, 10 ** 39)),
+        (wronglands.wrong_land, world),
+        (wronglands.stuck_land, world),
+    ]
+    for node in found[::11]:
+        tile = node[1][-1]
+        tiles = free.guide_beside(world, node, tile) or {}
+        told += [(free.beside_look, world, node, tile), (free.guide_beside, world, node, tile)]
+        told += [(free.is_beside, world, node, tile, {one: tiles[one] for one in reversed(list(tiles))})]
+    return told
+
+
+def calls_of_tries(world, land, ahead):
+    """Calls of all functions that try tiles on any land."""
+    picks = [(cell, world[0][-1]) for cell, mark in land[0][::-2]]
+    return [
+        (tried.tried, world, land, ahead),
+        (tried.must_stand, world, land, ahead),
+        *((tried.can_stand, world, land, ahead, cell, world[0][0]) for cell, mark in land[0][::20]),
+        (tried.built, world, land, ahead),
+        (tried.led, world, land, ahead, picks),
+        (tried.led, world, land, ahead, tuple(picks[:1])),
+        (tried.led, world, land, ahead, ()),
+        (tried.grief, world, land, ahead),
+    ]
+
+
+def calls_on_guides():
+    shore = (*COAST[:2], ("any",), (("by", "any", "any"),), ())
+    told = {"z": ("a", "b"), "x": ("a", "b")}
+    cells = (("x", "any"), ("y", "any"), ("z", "any"))
+    ties = (("by", "x", "y"), ("by", "x", "z"), ("by", "y", "z"))
+    apart = (*STONES[:4], ())
+    return [
+        *calls_of_guides(STONES, TRIANGLE, told),
+        *calls_of_guides(apart, TRIANGLE, {"z": ("s",)}),
+        *calls_of_guides(COAST, (cells, ties), {"z": ("sand", "water"), "x": ("meadow",)}),
+        *calls_of_guides(shore, (cells, ties), {"z": ("meadow",), "x": ("water",)}),
+        *calls_of_tries(STONES, TRIANGLE, told),
+        *calls_of_tries(STONES, TRIANGLE, {"x": ("a",)}),
+        *calls_of_tries(shore, (cells, ties), {"z": ("meadow",)}),
+        *calls_of_tries(STONES, ((), ()), {}),
+    ]
+
+
+def calls_on_the_greatest_guides():
+    told = []
+    for seed, world in enumerate((great_world(Dice(5)), great_world(Dice(3), each_told=True), STONES, COAST)):
+        dice = Dice(seed)
+        land = greatest_land(world, dice)
+        ahead = {cell: dice.one([world[0], world[0][:1]]) for cell, mark in dice.mixed(land[0])[:3]}
+        told += calls_of_guides(world, land, ahead)
+        told += calls_of_tries(world, land, ahead)
+    return told
+
+
 def answer(call):
     """What a call returns or raises, as text."""
     try:
@@ -338,3 +410,11 @@ class PointsOnTheGreatestWebs(Points):
 
     def test_the_webs_are_as_great(self):
         self.assertEqual(max(len(arising.nodes(call[1])) for call in self.calls()), 60)
+
+
+class PointsOnGuides(Points):
+    calls = staticmethod(calls_on_guides)
+
+
+class PointsOnTheGreatestGuides(Points):
+    calls = staticmethod(calls_on_the_greatest_guides)
