@@ -10,8 +10,15 @@ MOST_CELLS = 300
 
 
 def arising(world):
-    found = nodes(world)
-    return {mark: tuple([lot for one, lot in found if one == mark]) for mark in world[2]}
+    return lots_by_mark(world, nodes(world))
+
+
+def lots_by_mark(world, found):
+    """Return the dict from all MARKS to the tuples of their LOTS in a row of NODES."""
+    lots = {mark: [] for mark in world[2]}
+    for mark, lot in found:
+        lots[mark].append(lot)
+    return {mark: tuple(lots[mark]) for mark in lots}
 
 
 def nodes(world):
@@ -58,16 +65,20 @@ def _passed(world, word, tie, lot):
     return handed(world, tie, lot) if word == "on" else handed_back(world, tie, lot)
 
 
-def hands_of(world, node):
+def ends_of(world):
+    """Return the dict from all MARKS to lists of tuples (word, tie, far): where PATTERN TIES lead from them."""
+    ends = {mark: [] for mark in world[2]}
+    for tie in world[3]:
+        _, one, other = tie
+        ends[one].append(("on", tie, other))
+        ends[other].append(("back", tie, one))
+    return ends
+
+
+def hands_of(world, ends, node):
     """Return the list of tuples (mark, lot, how), one for each LOT that PATTERN TIES hand on or back of a NODE."""
     mark, lot = node
-    hands = []
-    for tie in world[3]:
-        if tie[1] == mark:
-            hands.append((tie[2], handed(world, tie, lot), ("on", tie, lot)))
-        if tie[2] == mark:
-            hands.append((tie[1], handed_back(world, tie, lot), ("back", tie, lot)))
-    return hands
+    return [(far, _passed(world, word, tie, lot), (word, tie, lot)) for word, tie, far in ends[mark]]
 
 
 def growths(world):
@@ -76,8 +87,10 @@ def growths(world):
     A GROWTH is a tuple (many, how): the fewest CELLS that a tree can have that brings the LOT about, and how it comes
     about there, as in an ITEM.
     """
-    offers = [(1, mark, lot, ("told",)) for mark in world[2] for lot in told_lots(world)]
-    return least_growths(offers, lambda node: hands_of(world, node))
+    told = told_lots(world)
+    ends = ends_of(world)
+    offers = [(1, mark, lot, ("told",)) for mark in world[2] for lot in told]
+    return least_growths(offers, lambda node: hands_of(world, ends, node))
 
 
 def least_growths(offers, hands_at):

@@ -26,16 +26,26 @@ def bits_of(mask):
 
 def net_of(world, many, ties):
     """Return the NET of so many PLACES and of the TIES (kind, one, other) between them."""
-    onwards = {}
-    back = {}
-    for kind in kinds_of(world):
-        onwards[kind] = _reach([mask_of(world, partners(world, kind, tile)) for tile in world[0]])
-        back[kind] = _reach([mask_of(world, partners_ahead(world, kind, tile)) for tile in world[0]])
+    reaches = reaches_of(world)
     net = [[] for _ in range(many)]
     for kind, one, other in ties:
-        net[one].append((other, onwards[kind]))
-        net[other].append((one, back[kind]))
+        onwards, back = reaches[kind]
+        net[one].append((other, onwards))
+        net[other].append((one, back))
     return net
+
+
+def reaches_of(world):
+    """Return the dict from all KINDS to tuples (onwards, back).
+
+    onwards[mask] is the MASK of the TILES that, as second ones, fit some TILE of the MASK, back[mask] that of those
+    that fit some as first ones.
+    """
+    found = {}
+    for kind in kinds_of(world):
+        onwards = _reach([mask_of(world, partners(world, kind, tile)) for tile in world[0]])
+        found[kind] = (onwards, _reach([mask_of(world, partners_ahead(world, kind, tile)) for tile in world[0]]))
+    return found
 
 
 def _reach(mates):

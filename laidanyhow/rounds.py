@@ -1,6 +1,7 @@
 """Rounds: how far what is told reaches [22]."""
 
-from laidanyhow.arising import MOST_CELLS, arising, forest_of, growths, hands_of, least_growths, planted
+from laidanyhow.arising import MOST_CELLS, arising, ends_of, forest_of, growths, hands_of, least_growths
+from laidanyhow.arising import lots_by_mark, planted
 from laidanyhow.errors import TooMany
 
 
@@ -18,14 +19,14 @@ def round_lots(world, number):
 
 def _hands_from(world, lots):
     """Return the dict from all NODES to the lists of what is handed of them."""
-    return {(mark, lot): hands_of(world, (mark, lot)) for mark in lots for lot in lots[mark]}
+    ends = ends_of(world)
+    return {(mark, lot): hands_of(world, ends, (mark, lot)) for mark in lots for lot in lots[mark]}
 
 
 def _lots_behind(world, lots, hands):
     """Return the LOTS of the ROUND behind that with these LOTS."""
     offers = [(1, *hand) for mark in lots for lot in lots[mark] for hand in hands[(mark, lot)]]
-    found = sorted(least_growths(offers, _nothing))
-    return {mark: tuple([lot for one, lot in found if one == mark]) for mark in world[2]}
+    return lots_by_mark(world, sorted(least_growths(offers, _nothing)))
 
 
 def _nothing(node):
@@ -52,7 +53,8 @@ def far_tree(world, number):
     if least is not None and number >= least:
         return None
     levels = [_small_growths(world, growths(world))]
-    hands = {node: hands_of(world, node) for node in levels[0]}
+    ends = ends_of(world)
+    hands = {node: hands_of(world, ends, node) for node in levels[0]}
     # A tree has a CELL at each distance from its CELL to what is told, so the levels become empty at last.
     while len(levels) <= number and len(levels[-1]) > 0:
         below = levels[-1]

@@ -2,8 +2,7 @@
 
 from laidanyhow.arising import arising
 from laidanyhow.errors import NoPick
-from laidanyhow.nets import lot_of, mask_of, net_of, pinned, settled
-from laidanyhow.worlds import holds
+from laidanyhow.nets import lot_of, mask_of, net_of, pinned, reaches_of, settled
 
 
 def web_lots(world):
@@ -17,11 +16,16 @@ def web_ties(world):
 def web_of(world):
     """Return the ascending tuple of all NODES, web_ties, and the NET of the WEB, whose PLACES are the NODES."""
     found = arising(world)
+    rows = {mark: [((mark, lot), mask_of(world, lot)) for lot in found[mark]] for mark in found}
+    reaches = reaches_of(world)
     ties = []
     for tie in world[3]:
         kind, begin, end = tie
-        for one in found[begin]:
-            ties.extend([(tie, (begin, one), (end, other)) for other in found[end] if holds(world, kind, one, other)])
+        onwards, back = reaches[kind]
+        for one, mask in rows[begin]:
+            # They hold each other: each TILE of the one is reached from the other, and the other way about.
+            held = [node for node, far in rows[end] if mask & back[far] == mask and far & onwards[mask] == far]
+            ties.extend([(tie, one, other) for other in held])
     nodes = tuple([(mark, lot) for mark in found for lot in found[mark]])
     places = {node: place for place, node in enumerate(nodes)}
     net = net_of(world, len(nodes), [(tie[0], places[one], places[other]) for tie, one, other in ties])

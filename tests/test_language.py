@@ -15,7 +15,8 @@ METHODS = set(
     " reverse rfind rjust rpartition setdefault split startswith strip upper values zfill add discard"
     " bit_length".split()
 )
-LIBRARY = {"heapq": {"heappop", "heappush"}, "math": {"gcd"}}
+ATTRIBUTES = set("count index find get join lower upper split strip add".split())
+LIBRARY = {"heapq": {"heappop", "heappush"}, "itertools": {"combinations"}, "math": {"gcd", "lcm"}}
 UNUSED = set(
     "register mro elements open input law version_info compile copyright credits delattr dir eval exec exit gc globals"
     " help id importlib license locals os quit super type vars sys map filter".split()
@@ -146,7 +147,7 @@ class Language(unittest.TestCase):
         names += [(where, node.attr) for where, node in self.nodes(ast.Attribute)]
         names += [(where, node.name) for where, node in self.nodes(ast.FunctionDef, ast.ClassDef)]
         for where, name in names:
-            if name != "__init__":
+            if name not in ("__init__", "__eq__"):
                 self.assertFalse(name.startswith(UNUSED_BEGINNINGS), f"{where}: {name}")
 
     def test_no_local_name_is_a_class_or_an_import(self):
@@ -162,9 +163,42 @@ class Language(unittest.TestCase):
                     self.assertNotIn(node.id, taken, name)
 
     def test_methods(self):
+        own = self.own_methods()
         for where, node in self.nodes(ast.Call):
             if isinstance(node.func, ast.Attribute):
-                self.assertIn(node.func.attr, METHODS, where)
+                self.assertIn(node.func.attr, METHODS | own, where)
+                self.assertNotIn(node.func.attr, ("__init__", "__eq__"), where)
+
+    def own_methods(self):
+        classes = [node for where, node in self.nodes(ast.ClassDef)]
+        return {one.name for node in classes for one in node.body if isinstance(one, ast.FunctionDef)}
+
+    def test_no_name_is_a_method_and_an_attribute(self):
+        own = self.own_methods()
+        for where, node in self.nodes(ast.ClassDef):
+            methods = [one.name for one in node.body if isinstance(one, ast.FunctionDef)]
+            self.assertEqual(len(set(methods)), len(methods), where)
+            attributes = [one for one in ast.walk(node) if isinstance(one, ast.Attribute)]
+            assigned = {one.attr for one in attributes if isinstance(one.ctx, ast.Store)}
+            self.assertFalse(assigned & (set(methods) | METHODS - ATTRIBUTES), where)
+            for one in attributes:
+                self.assertIn(one.attr, assigned | own | METHODS, where)
+
+    def test_tables_at_module_level_are_only_looked_up(self):
+        for name, tree in self.trees.items():
+            tables = {
+                target.id for node in tree.body if isinstance(node, ast.Assign) and isinstance(node.value, ast.Dict)
+                for target in node.targets
+            }
+            right = set()
+            for node in ast.walk(tree):
+                if isinstance(node, ast.Compare):
+                    right |= {id(one) for one in node.comparators}
+                if isinstance(node, (ast.Subscript, ast.Attribute)):
+                    right.add(id(node.value))
+            for node in ast.walk(tree):
+                if isinstance(node, ast.Name) and node.id in tables and isinstance(node.ctx, ast.Load):
+                    self.assertIn(id(node), right, f"{name}:{node.lineno}")
 
     def test_sets_are_sorted_measured_or_stored(self):
         for name, tree in self.trees.items():
