@@ -1,9 +1,11 @@
 """Worlds, lands and odd values for the tests, and what the document's definitions say of them, word by word.
 
-Nothing in here uses the package but for its errors, which stand among the odd values.
+Nothing in here uses the package but for its errors and objects, which stand among the odd values.
 """
 
+from laidanyhow.desk import Desk
 from laidanyhow.errors import Nothing, TileError, Wrong
+from laidanyhow.house import House
 
 
 class Dice:
@@ -73,6 +75,7 @@ def odd_values():
         [], (), {}, [[]], ((),), {"a": 1}, {(): []}, {1: 2, None: True}, ("a",), ["a"], (1, 2, 3), (None,) * 3000,
         ("a", "b"), ("r", "x", "y"), ((), (), (), (), ()), ([], [], [], [], []), ((), ()), nested(20),
         Wrong(0), TileError(), Nothing(), (Wrong([]),), [True, (False, {"x": ("a",)})],
+        House(LONE, ((), ())), Desk("tile a\nmark m", ""), (House(LONE, ((), ())), "a"),
     ]
 
 
@@ -198,17 +201,12 @@ def random_ahead(world, land, dice):
 
 
 def all_told(world):
-    """TOLD LOTS by [2]: the common tiles of each number of the lots that are told."""
+    """TOLD LOTS by [2]: the common tiles of each number of the lots that are told, one more of them at a time."""
     base = [set(world[0])] + [{tile} for tile in world[0]] + [set(lot) for lot in world[4]]
-    found = []
-    for choice in range(1, 2 ** len(base)):
-        met = set(world[0])
-        for place, lot in enumerate(base):
-            if choice >> place & 1:
-                met = met & lot
-        if met and tuple(sorted(met)) not in found:
-            found.append(tuple(sorted(met)))
-    return sorted(found)
+    found = [set(world[0])]
+    for lot in base:
+        found += [met for met in [lot & one for one in found] if met not in found]
+    return sorted({tuple(sorted(met)) for met in found if met})
 
 
 def ascends(rows):
