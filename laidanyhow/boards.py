@@ -3,7 +3,7 @@
 from laidanyhow.errors import NoForget, Refused, TooMany
 from laidanyhow.forms import is_integer, is_row, is_world
 from laidanyhow.guides import guide
-from laidanyhow.looks import look
+from laidanyhow.nets import land_masks, land_net, lot_of, settled
 from laidanyhow.rounds import forgets
 from laidanyhow.worlds import kinds_of
 
@@ -97,15 +97,16 @@ def _next_places(found, edge):
 
 
 def board_look(board, builds):
+    world = board[0]
     places = near(board, builds)
     edge = _next_places({place: True for place in places}, places)
     part = tuple(sorted([*places, *edge]))
     land, ahead = part_land(board, builds, part)
-    lots = look(board[0], land, ahead)
-    if lots is None:
+    masks = settled(land_net(world, land), land_masks(world, land, ahead))
+    if masks is None:
         return None
-    looked = dict(zip(part, list(lots.values())))
-    return {place: looked[place] for place in places}
+    looked = dict(zip(part, masks))
+    return {place: lot_of(world, looked[place]) for place in places}
 
 
 def tile_at(board, builds, place):
