@@ -2,9 +2,9 @@
 
 A MASK is a LOT as a number: its bit with the index i is 1 if the LOT has the TILE with this index in the WORLD.
 MASKS are a list with a MASK for each PLACE, which is a CELL or a NODE, told by its index. A NET is a list with, for
-each PLACE, the list of its LINKS (other, reach), two for each TIE, one from each end: reach[mask] is the MASK of the
-TILES that, standing at the PLACE other, fit some TILE of the MASK at this one. MASKS are SETTLED if nothing can be
-struck.
+each PLACE, the list of its LINKS (other, reach), two for each TIE, one from each end: reached(reach, mask) is the MASK
+of the TILES that, standing at the PLACE other, fit some TILE of the MASK at this one. MASKS are SETTLED if nothing can
+be struck.
 """
 
 from laidanyhow.looks import first_lots
@@ -36,24 +36,32 @@ def net_of(world, many, ties):
 
 
 def reaches_of(world):
-    """Return the dict from all KINDS to tuples (onwards, back).
+    """Return the dict from all KINDS to tuples (onwards, back) of what reached takes.
 
-    onwards[mask] is the MASK of the TILES that, as second ones, fit some TILE of the MASK, back[mask] that of those
-    that fit some as first ones.
+    Onwards lead to the TILES that, as second ones, fit some TILE of a MASK, back to those that fit some as first ones.
     """
     found = {}
     for kind in kinds_of(world):
-        onwards = _reach([mask_of(world, partners(world, kind, tile)) for tile in world[0]])
-        found[kind] = (onwards, _reach([mask_of(world, partners_ahead(world, kind, tile)) for tile in world[0]]))
+        onwards = [mask_of(world, partners(world, kind, tile)) for tile in world[0]]
+        back = [mask_of(world, partners_ahead(world, kind, tile)) for tile in world[0]]
+        found[kind] = (_reach(onwards), _reach(back))
     return found
 
 
 def _reach(mates):
-    """Return the list with, for each MASK, the MASK of the mates of its TILES."""
-    reach = [0]
-    for mate in mates:
-        reach = reach + [mask | mate for mask in reach]
-    return reach
+    """Return the dict from the MASKS of one TILE each to those of their mates."""
+    return {1 << index: mate for index, mate in enumerate(mates)}
+
+
+def reached(reach, mask):
+    """Return the MASK of the mates of all TILES of this one."""
+    # In a WORLD of many TILES there are too many MASKS to put them all in at once.
+    if mask not in reach:
+        mates = 0
+        for bit in bits_of(mask):
+            mates = mates | reach[bit]
+        reach[mask] = mates
+    return reach[mask]
 
 
 def land_net(world, land):
@@ -94,7 +102,7 @@ def _settle(net, masks, waiting):
         place = waiting.pop()
         mask = masks[place]
         for other, reach in net[place]:
-            left = masks[other] & reach[mask]
+            left = masks[other] & (reach[mask] if mask in reach else reached(reach, mask))
             if left == 0:
                 return other
             if left != masks[other]:

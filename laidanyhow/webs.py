@@ -2,7 +2,7 @@
 
 from laidanyhow.arising import arising
 from laidanyhow.errors import NoPick
-from laidanyhow.nets import lot_of, mask_of, net_of, pinned, reaches_of, settled
+from laidanyhow.nets import lot_of, mask_of, net_of, pinned, reached, reaches_of, settled
 
 
 def web_lots(world):
@@ -23,8 +23,9 @@ def web_of(world):
         kind, begin, end = tie
         onwards, back = reaches[kind]
         for one, mask in rows[begin]:
+            mates = reached(onwards, mask)
             # They hold each other: each TILE of the one is reached from the other, and the other way about.
-            held = [node for node, far in rows[end] if mask & back[far] == mask and far & onwards[mask] == far]
+            held = [node for node, far in rows[end] if mask & reached(back, far) == mask and far & mates == far]
             ties.extend([(tie, one, other) for other in held])
     nodes = tuple([(mark, lot) for mark in found for lot in found[mark]])
     places = {node: place for place, node in enumerate(nodes)}

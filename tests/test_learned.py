@@ -4,6 +4,8 @@ import unittest
 
 from laidanyhow.errors import Nothing, TooMany
 from laidanyhow.forms import is_land
+from laidanyhow.guides import is_sure
+from laidanyhow.house import House
 from laidanyhow.layings import is_laying, least_laying
 from laidanyhow.lands import grid
 from laidanyhow.learned import as_laid, is_picture, learned, learned_windows, woven
@@ -148,6 +150,19 @@ class Learned(unittest.TestCase):
         self.assertEqual(len(dict(world[1])["right"]), 9)
         land, tiles = as_laid(world, (names + names,))
         self.assertTrue(is_laying(world, land, {}, tiles))
+
+    def test_worlds_of_many_tiles_may_be_passed_in_again(self):
+        names = tuple(f"n{number:02d}" for number in range(40))
+        picture = (names + names,) * 2
+        world = learned(picture)
+        land, tiles = as_laid(world, picture)
+        house = House(world, land)
+        house.lay("r0c5", "n07")
+        self.assertEqual([house.can("r0c6"), house.can("r1c5")], [("n08",), ("n07",)])
+        house.finish()
+        self.assertEqual(house.ahead()["r1c70"], ("n32",))
+        self.assertEqual(least_laying(world, land, {}), tiles)
+        self.assertFalse(is_sure(world))
 
     def test_as_laid(self):
         layings = 0
